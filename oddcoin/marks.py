@@ -12,11 +12,17 @@ def cases(marks):
     return 2 * marks.count("e") + 1
 
 
+def most_cases(weighings):
+    # Each weighing has three outcomes, so each one more tells three times as many cases apart.
+    most = 1
+    for step in range(weighings):
+        most = most * 3
+    return most
+
+
 def fewest(marks):
     many = cases(marks)
     weighings = 0
-    told_apart = 1
-    while told_apart < many:
-        told_apart = told_apart * 3
+    while most_cases(weighings) < many:
         weighings = weighings + 1
     return weighings

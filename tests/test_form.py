@@ -148,6 +148,44 @@ class Syntax(unittest.TestCase):
             if isinstance(node.func, ast.Attribute):
                 self.assertIn(node.func.attr, METHODS | own, (name, node.lineno))
 
+    def test_locals_are_not_called_like_imports_or_classes(self):
+        for name, tree in trees():
+            top = {alias.name for node in tree.body if isinstance(node, ast.ImportFrom) for alias in node.names}
+            top |= {node.name for node in tree.body if isinstance(node, ast.ClassDef)}
+            for node in ast.walk(tree):
+                if isinstance(node, ast.arg):
+                    self.assertNotIn(node.arg, top, (name, node.lineno))
+                elif isinstance(node, ast.Name) and isinstance(node.ctx, ast.Store):
+                    self.assertNotIn(node.id, top, (name, node.lineno))
+
+    def test_no_name_is_a_method_and_a_value(self):
+        methods = {part.name for name, node in nodes(ast.ClassDef) for part in node.body if hasattr(part, "name")}
+        values = {node.attr for name, node in nodes(ast.Attribute) if isinstance(node.ctx, ast.Store)}
+        self.assertEqual(methods & values, set())
+        taken = set().union(*(dir(kind) for kind in (str, int, list, dict, set, bytes)))
+        self.assertEqual((methods - TWO_UNDERSCORES | values) & taken, set())
+
+    def test_no_powers_and_is_beside_plain_values_alone(self):
+        for name, node in nodes(ast.BinOp):
+            self.assertNotIsInstance(node.op, ast.Pow, (name, node.lineno))
+        for name, node in nodes(ast.Compare):
+            if any(isinstance(operator, (ast.Is, ast.IsNot)) for operator in node.ops):
+                self.assertIsInstance(node.comparators[0], ast.Constant, (name, node.lineno))
+
+    def test_errors_taken_are_the_programs_own(self):
+        own = {node.name for name, node in nodes(ast.ClassDef) if name == "errors.py"}
+        for name, node in nodes(ast.ExceptHandler):
+            self.assertIn(getattr(node.type, "id", None), own, (name, node.lineno))
+
+    def test_no_files_draw_from_one_another(self):
+        drawn = {name: set() for name, tree in trees()}
+        for name, node in nodes(ast.ImportFrom):
+            drawn[name].add(node.module.split(".")[1] + ".py")
+        while drawn:
+            free = [name for name in drawn if not drawn[name] & set(drawn)]
+            self.assertTrue(free, sorted(drawn))
+            drawn = {name: drawn[name] for name in drawn if name not in free}
+
 
 if __name__ == "__main__":
     unittest.main()
